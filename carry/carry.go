@@ -102,7 +102,7 @@ func (c *Carrier) sweep(n int) {
 	}
 	for _, i := range told.Intents {
 		if c.spent(i) {
-			c.release(n, i.Stripe, i.Gen)
+			c.Release(n, i.Stripe, i.Gen)
 		}
 	}
 }
@@ -113,8 +113,8 @@ func (c *Carrier) spent(i api.Intent) bool {
 	return i.Gen < k.Gen || i.Gen == k.Gen && !k.Pending()
 }
 
-// release: a Release that is not heard does no harm, as the intent stays only a while longer.
-func (c *Carrier) release(n, stripe, gen int) {
+// Release takes an intent from a node, if it hears of it: where it does not no harm is done, as the intent stays only a while longer.
+func (c *Carrier) Release(n, stripe, gen int) {
 	c.Wire.Call(n, node.Req{Kind: node.Release, Stripe: stripe, Gen: gen})
 }
 
@@ -134,7 +134,7 @@ func (c *Carrier) Spread(stripe int) {
 	}
 	k.Bytes = nil
 	for n := range api.Nodes {
-		c.release(n, stripe, k.Gen)
+		c.Release(n, stripe, k.Gen)
 	}
 }
 
@@ -150,7 +150,7 @@ func (c *Carrier) Fetch(stripe int) ([]byte, error) {
 	chunks := make([][]byte, api.Chunks)
 	var errs []error
 	for index, there := 0, 0; index < api.Chunks && there < api.Data; index++ {
-		data, err := c.piece(stripe, k.Gen, index)
+		data, err := c.Piece(stripe, index)
 		if err != nil {
 			errs = append(errs, err)
 			continue
@@ -164,15 +164,15 @@ func (c *Carrier) Fetch(stripe int) ([]byte, error) {
 	return nil, cause.OfStripe(stripe, cause.Join(errs))
 }
 
-// piece: the bytes of the stripe's chunk of that index, if its node has it of that generation.
-func (c *Carrier) piece(stripe, gen, index int) ([]byte, error) {
+// Piece: the bytes of the stripe's chunk of that index, if its node has it of the stripe's generation.
+func (c *Carrier) Piece(stripe, index int) ([]byte, error) {
 	n := place.Node(stripe, index)
 	told, err := c.Wire.Call(n, node.Req{Kind: node.Get, Stripe: stripe})
 	if err != nil {
 		return nil, err
 	}
 	for _, p := range told.Pieces {
-		if p.Gen == gen && p.Index == index {
+		if p.Gen == c.Stripes[stripe].Gen && p.Index == index {
 			return p.Data, nil
 		}
 	}

@@ -8,6 +8,7 @@ import (
 	"corbel/api"
 	"corbel/carry"
 	"corbel/cause"
+	"corbel/coder"
 	"corbel/node"
 	"corbel/wire"
 )
@@ -148,5 +149,48 @@ func TestFetch(t *testing.T) {
 	c.Carry(2, 4, some(2))
 	if got, err := c.Fetch(2); err != nil || !bytes.Equal(got, some(2)) {
 		t.Errorf("14.3: Fetch: %x, %v", got, err)
+	}
+}
+
+// TestPiece: of the stripe's generation and that index, or none.
+func TestPiece(t *testing.T) {
+	w := wire.New()
+	c := carry.New(w)
+	c.Carry(3, 2, some(1))
+	chunks, _ := coder.New().Encode(some(1))
+	for index, want := range chunks {
+		if got, err := c.Piece(3, index); err != nil || !bytes.Equal(got, want) {
+			t.Errorf("14.3: Piece %d: %x, %v", index, got, err)
+		}
+	}
+	c.Stripes[3].Gen = 3
+	if _, err := c.Piece(3, 1); !cause.Is(err, api.ErrNone) || !slices.Equal(cause.Nodes(err), []int{4}) {
+		t.Errorf("14.3: Piece of another gen: %v", err)
+	}
+	w.Down(4, true)
+	if _, err := c.Piece(3, 1); !cause.Is(err, api.ErrDown) || !slices.Equal(cause.Nodes(err), []int{4}) {
+		t.Errorf("14.3: Piece of a node that is down: %v", err)
+	}
+}
+
+// TestRelease: one node is told, and where it does not hear nothing comes of it.
+func TestRelease(t *testing.T) {
+	w := wire.New()
+	c := carry.New(w)
+	w.Down(4, true)
+	c.Carry(3, 2, some(1))
+	if intents(w) != 3 {
+		t.Fatalf("14.2: %d intents", intents(w))
+	}
+	c.Release(1, 3, 1)
+	w.Down(1, true)
+	c.Release(1, 3, 2)
+	if intents(w) != 3 {
+		t.Errorf("14.2: %d intents, want 3", intents(w))
+	}
+	w.Down(1, false)
+	c.Release(1, 3, 2)
+	if intents(w) != 2 {
+		t.Errorf("14.2: %d intents, want 2", intents(w))
 	}
 }
